@@ -1,0 +1,1 @@
+"""Ebbkeep: machines that come and go with their work."""

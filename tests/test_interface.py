@@ -1,0 +1,72 @@
+"""The names, arguments and places of the interface."""
+
+import ast
+import importlib
+import inspect
+import os
+import unittest
+
+import ebbkeep
+
+FOLDER = os.path.dirname(ebbkeep.__file__)
+
+FUNCTIONS = {
+    "settings": ["check_service(setting)", "check_house(setting)", "write_house(setting)", "read_house(text)"],
+    "queues": ["is_full(moment)", "accepts_drop(lag, patience, moments, paper)",
+               "make_drop(lag, patience, moments, u)"],
+    "packing": ["first_fit(box, sizes)", "accepts_packing(box, sizes, boxes)"],
+    "tariffs": ["check_tariff(tariff)", "off(tariff)", "rate(tariff, state)", "wake(tariff, state)",
+                "idle_cost(tariff, total)", "idle_state(tariff, total)", "step_cost(tariff, before, after)"],
+}
+
+CLASSES = {
+    "errors": {"EbbError": [], "Malformed": ["__init__(self, line)"], "InvalidSetting": [], "InvalidTariff": [],
+               "InvalidRow": [], "NotFound": []},
+    "queues": {"Queue": ["__init__(self, lag, patience)", "rows(self)", "now(self)", "due(self, came)",
+                         "step(self, came, places)"]},
+}
+
+
+def tree_of(module):
+    with open(os.path.join(FOLDER, module + ".py"), encoding="utf-8") as file:
+        return ast.parse(file.read())
+
+
+def headings(body):
+    """Return name(arguments) of each function that is defined right in these statements."""
+    return [f"{node.name}({ast.unparse(node.args)})" for node in body if isinstance(node, ast.FunctionDef)]
+
+
+class Interface(unittest.TestCase):
+    def test_functions_are_defined_where_they_are_listed(self):
+        for module, expected in FUNCTIONS.items():
+            found = headings(tree_of(module).body)
+            for heading in expected:
+                self.assertIn(heading, found, module)
+
+    def test_classes_and_their_methods_are_defined_where_they_are_listed(self):
+        for module, classes in CLASSES.items():
+            bodies = {node.name: node.body for node in tree_of(module).body if isinstance(node, ast.ClassDef)}
+            for name, expected in classes.items():
+                self.assertIn(name, bodies, module)
+                for heading in expected:
+                    self.assertIn(heading, headings(bodies[name]), name)
+
+    def test_what_is_imported_is_what_is_defined(self):
+        for table in (FUNCTIONS, CLASSES):
+            for module, expected in table.items():
+                loaded = importlib.import_module("ebbkeep." + module)
+                for heading in expected:
+                    value = getattr(loaded, heading.split("(")[0])
+                    self.assertEqual(value.__module__, "ebbkeep." + module)
+
+    def test_functions_take_their_arguments_by_name(self):
+        for module, expected in FUNCTIONS.items():
+            loaded = importlib.import_module("ebbkeep." + module)
+            for heading in expected:
+                name, arguments = heading[:-1].split("(")
+                self.assertEqual(list(inspect.signature(getattr(loaded, name)).parameters), arguments.split(", "))
+
+
+if __name__ == "__main__":
+    unittest.main()
