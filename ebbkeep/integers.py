@@ -1,4 +1,4 @@
-"""Integers: their decimal forms in texts."""
+"""Integers: their decimal forms in texts, and quotients that are rounded up."""
 
 DIGITS = "0123456789"
 
@@ -28,3 +28,8 @@ def read_numbers(words):
 def write_numbers(numbers):
     """Return the list of the decimal forms."""
     return [str(number) for number in numbers]
+
+
+def rounded_up(number, divisor):
+    """Return the quotient by a divisor above 0, rounded up."""
+    return (number + divisor - 1) // divisor

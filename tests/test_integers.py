@@ -2,7 +2,7 @@
 
 import unittest
 
-from ebbkeep.integers import read_number, read_numbers, write_numbers
+from ebbkeep.integers import read_number, read_numbers, rounded_up, write_numbers
 
 
 class Numbers(unittest.TestCase):
@@ -20,6 +20,9 @@ class Numbers(unittest.TestCase):
         self.assertEqual(read_numbers([]), [])
         self.assertIsNone(read_numbers(["0", "", "12"]))
         self.assertEqual(write_numbers((0, 12)), ["0", "12"])
+
+    def test_quotients_rounded_up(self):
+        self.assertEqual([rounded_up(number, 4) for number in (0, 1, 4, 5, 8, 9)], [0, 1, 1, 2, 2, 3])
 
 
 if __name__ == "__main__":

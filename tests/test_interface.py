@@ -15,6 +15,13 @@ FUNCTIONS = {
     "queues": ["is_full(moment)", "accepts_drop(lag, patience, moments, paper)",
                "make_drop(lag, patience, moments, u)"],
     "packing": ["first_fit(box, sizes)", "accepts_packing(box, sizes, boxes)"],
+    "shares": ["shares(quota, wants, weights)", "accepts_shares(quota, wants, weights, given)"],
+    "loads": ["check_load(parts)", "count_at(parts, t)", "counts(parts, length)", "write_load(parts)",
+              "read_load(text)"],
+    "windows": ["window_need(room, lag, patience, counts, window)", "least_machines(room, lag, patience, counts)",
+                "drops(room, lag, patience, counts, machines)"],
+    "waits": ["waits(lag, patience, moments)"],
+    "lazy": ["lazy_runs(room, lag, patience, counts)", "lazy_total(runs)"],
     "tariffs": ["check_tariff(tariff)", "off(tariff)", "rate(tariff, state)", "wake(tariff, state)",
                 "idle_cost(tariff, total)", "idle_state(tariff, total)", "step_cost(tariff, before, after)"],
 }

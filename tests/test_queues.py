@@ -4,7 +4,7 @@ import random
 import unittest
 
 from ebbkeep.errors import NotFound
-from ebbkeep.queues import Queue, accepts_drop, is_full, make_drop
+from ebbkeep.queues import Queue, accepts_drop, is_full, make_drop, split_rows
 
 
 class SlowQueue:
@@ -130,6 +130,24 @@ class Queues(unittest.TestCase):
         one, two = Queue(0, 3), Queue(0, 3)
         one.step(3, 1)
         self.assertEqual((two.rows(), two.now()), ([], 0))
+
+
+class Splitting(unittest.TestCase):
+    ROWS = [(2, 3), (4, 1), (5, 6)]
+
+    def test_between_and_in_rows(self):
+        self.assertEqual(split_rows(self.ROWS, 3), ([(2, 3)], [(4, 1), (5, 6)]))
+        self.assertEqual(split_rows(self.ROWS, 5), ([(2, 3), (4, 1), (5, 1)], [(5, 5)]))
+        self.assertEqual(split_rows(self.ROWS, 2), ([(2, 2)], [(2, 1), (4, 1), (5, 6)]))
+
+    def test_nothing_and_everything(self):
+        self.assertEqual(split_rows(self.ROWS, 0), ([], self.ROWS))
+        self.assertEqual(split_rows(self.ROWS, 10), (self.ROWS, []))
+        self.assertEqual(split_rows([], 0), ([], []))
+
+    def test_a_row_without_jobs_is_left_out(self):
+        self.assertEqual(split_rows([(2, 3), (7, 0)], 1), ([(2, 1)], [(2, 2)]))
+        self.assertEqual(split_rows([(7, 0), (8, 2)], 2), ([(8, 2)], []))
 
 
 class Full(unittest.TestCase):
