@@ -2,6 +2,8 @@
 
 from ebbkeep.errors import InvalidTariff
 
+HOT = 0
+
 
 def is_tariff(tariff):
     """Tell whether the tuple of two tuples of integers is a tariff."""
@@ -60,6 +62,12 @@ def step_cost(tariff, before, after):
     """Return what going from one state to another costs, or None if it is not possible."""
     if after >= before:
         return 0
-    if after == 0:
+    if after == HOT:
         return wake(tariff, before)
     return None
+
+
+def off_before(breaks, length):
+    """Tell for each of the moments of a run whether every machine is off before it."""
+    broken = set(breaks)
+    return [t == 0 or t - 1 in broken for t in range(length)]

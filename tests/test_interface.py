@@ -24,6 +24,13 @@ FUNCTIONS = {
     "lazy": ["lazy_runs(room, lag, patience, counts)", "lazy_total(runs)"],
     "tariffs": ["check_tariff(tariff)", "off(tariff)", "rate(tariff, state)", "wake(tariff, state)",
                 "idle_cost(tariff, total)", "idle_state(tariff, total)", "step_cost(tariff, before, after)"],
+    "zones": ["spread(before, machines)", "started(before, after)"],
+    "lanes": ["from_parts(tariff, parts)"],
+    "costs": ["run_cost(tariff, prices, needs, breaks)", "run_rows(tariff, prices, needs, breaks)"],
+    "plans": ["cheapest(tariff, prices, needs, breaks)", "fits(tariff, prices, needs, breaks, plan)",
+              "plan_cost(tariff, prices, breaks, plan)"],
+    "papers": ["make(tariff, prices, needs, breaks)", "is_sound(tariff, prices, breaks, paper)",
+               "accepts(tariff, prices, needs, breaks, plan, paper)"],
 }
 
 CLASSES = {
@@ -31,6 +38,8 @@ CLASSES = {
                "InvalidRow": [], "NotFound": []},
     "queues": {"Queue": ["__init__(self, lag, patience)", "rows(self)", "now(self)", "due(self, came)",
                          "step(self, came, places)"]},
+    "lanes": {"Pool": ["__init__(self, tariff)", "step(self, price, need)", "end_break(self)", "states(self)",
+                       "after(self, price, need)", "spent(self)", "reserve(self)", "parts(self)"]},
 }
 
 

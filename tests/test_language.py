@@ -53,6 +53,23 @@ def names_bound(tree):
     return found + [node.name for node in tree.body if isinstance(node, (ast.FunctionDef, ast.ClassDef))]
 
 
+def names_defined(tree):
+    """Return the names of the functions, classes and values that the file defines."""
+    found = [node.name for node in tree.body if isinstance(node, (ast.FunctionDef, ast.ClassDef))]
+    return found + [target.id for node in tree.body if isinstance(node, ast.Assign) for target in node.targets]
+
+
+def names_inside(function):
+    """Return the parameters and local variables of a function, those of what is nested in it included."""
+    found = [node.arg for node in ast.walk(function) if isinstance(node, ast.arg)]
+    names = [node for node in ast.walk(function) if isinstance(node, ast.Name)]
+    return found + [node.id for node in names if isinstance(node.ctx, ast.Store)]
+
+
+def parts_of(tree, kind):
+    return [node for node in ast.walk(tree) if isinstance(node, kind)]
+
+
 class Language(unittest.TestCase):
     def test_files(self):
         for name in files():
@@ -87,7 +104,7 @@ class Language(unittest.TestCase):
                     self.assertRegex(node.module, r"\Aebbkeep\.[a-z_]+\Z")
                     source = node.module.split(".")[1] + ".py"
                     before[name].append(source)
-                    defined = [part.name for part in trees()[source].body if hasattr(part, "name")]
+                    defined = names_defined(trees()[source])
                     for part in node.names:
                         self.assertIsNone(part.asname)
                         self.assertIn(part.name, defined, name)
@@ -108,6 +125,45 @@ class Language(unittest.TestCase):
                 if isinstance(node, ast.Name) and node.id == "_":
                     self.assertIsInstance(node.ctx, ast.Store, (name, node.lineno))
 
+    def test_names_are_bound_once(self):
+        for name, tree in trees().items():
+            imported = [part.name for node in parts_of(tree, ast.ImportFrom) for part in node.names]
+            top = imported + names_defined(tree)
+            self.assertEqual(sorted(set(top)), sorted(top), name)
+            barred = imported + [node.name for node in parts_of(tree, ast.ClassDef)]
+            for function in parts_of(tree, (ast.FunctionDef, ast.Lambda)):
+                for inside in names_inside(function):
+                    self.assertNotIn(inside, barred, (name, function.lineno))
+
+    def test_no_name_is_a_method_and_an_attribute(self):
+        for name, tree in trees().items():
+            for node in parts_of(tree, ast.ClassDef):
+                methods = [part.name for part in node.body if isinstance(part, ast.FunctionDef)]
+                self.assertEqual(sorted(set(methods)), sorted(methods), (name, node.name))
+                attributes = [part.attr for part in parts_of(node, ast.Attribute) if isinstance(part.ctx, ast.Store)]
+                self.assertEqual(set(methods) & set(attributes), set(), (name, node.name))
+
+    def test_lambdas(self):
+        for name, tree in trees().items():
+            lines = [node.lineno for node in parts_of(tree, ast.Lambda)]
+            self.assertEqual(sorted(set(lines)), sorted(lines), name)
+
+    def test_what_is_iterated_is_not_kept(self):
+        for name, tree in trees().items():
+            for node in parts_of(tree, (ast.Assign, ast.Return)):
+                if isinstance(node.value, ast.Call) and isinstance(node.value.func, ast.Name):
+                    self.assertNotIn(node.value.func.id, ("zip", "enumerate", "reversed", "range"), (name, node.lineno))
+
+    def test_sets_are_asked_only(self):
+        for name, tree in trees().items():
+            for function in parts_of(tree, ast.FunctionDef):
+                kept = [node.targets[0].id for node in parts_of(function, ast.Assign) if ast.unparse(node.value)[:4] == "set("]
+                asked = [part.id for node in parts_of(function, ast.Compare) for part in node.comparators
+                         if isinstance(part, ast.Name) and isinstance(node.ops[0], (ast.In, ast.NotIn))]
+                for node in parts_of(function, ast.Name):
+                    if node.id in kept and isinstance(node.ctx, ast.Load):
+                        self.assertIn(node.id, asked, (name, node.lineno))
+
     def test_methods(self):
         own = {node.name for tree in trees().values() for node in ast.walk(tree) if isinstance(node, ast.FunctionDef)}
         for name, tree in trees().items():
@@ -118,7 +174,7 @@ class Language(unittest.TestCase):
     def test_values(self):
         for name, tree in trees().items():
             for node in ast.walk(tree):
-                self.assertNotIsInstance(node, (ast.Div, ast.Lambda, ast.Yield, ast.Set, ast.SetComp), name)
+                self.assertNotIsInstance(node, (ast.Div, ast.Yield, ast.Set, ast.SetComp, ast.GeneratorExp), name)
                 if isinstance(node, ast.Constant):
                     self.assertNotIsInstance(node.value, (float, bytes), (name, node.lineno))
                     if isinstance(node.value, str):

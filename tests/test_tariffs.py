@@ -1,23 +1,13 @@
-"""Points 30, 31 and 33: tariffs, states and steps, idle cost and idle state."""
+"""Points 30 to 33: tariffs, states and steps, breaks, idle cost and idle state."""
 
 import random
 import unittest
 
+from cases import LARGEST, PLAIN, SMALLEST, random_tariff
 from ebbkeep.errors import InvalidTariff
-from ebbkeep.tariffs import check_tariff, idle_cost, idle_state, off, rate, step_cost, wake
+from ebbkeep.tariffs import check_tariff, idle_cost, idle_state, off, off_before, rate, step_cost, wake
 
-PLAIN = ((9, 2), (0, 5, 30))
-SMALLEST = ((1,), (0, 1))
-LARGEST = ((10000, 9999, 2, 1), (0, 1, 9998, 9999, 10000))
 RIGHT = [PLAIN, SMALLEST, LARGEST, ((7,), (0, 20)), ((3, 2, 1), (0, 4, 5, 6))]
-
-
-def random_tariff(chance):
-    many = chance.randint(1, 4)
-    top = chance.choice([6, 30, 10000])
-    rates = tuple(sorted(chance.sample(range(1, top + 1), many), reverse=True))
-    wakes = (0,) + tuple(sorted(chance.sample(range(1, top + 1), many)))
-    return (rates, wakes)
 
 
 class Check(unittest.TestCase):
@@ -101,6 +91,19 @@ class States(unittest.TestCase):
                 elif after == 0:
                     expected = LARGEST[1][before]
                 self.assertEqual(step_cost(LARGEST, before, after), expected)
+
+
+class Breaks(unittest.TestCase):
+    def test_off_before_the_first_moment_and_after_breaks(self):
+        self.assertEqual(off_before([], 3), [True, False, False])
+        self.assertEqual(off_before([0], 3), [True, True, False])
+        self.assertEqual(off_before([0, 1], 4), [True, True, True, False])
+
+    def test_a_break_after_the_last_moment_has_no_effect(self):
+        self.assertEqual(off_before([2], 3), [True, False, False])
+
+    def test_no_moments(self):
+        self.assertEqual(off_before([], 0), [])
 
 
 class Idle(unittest.TestCase):
