@@ -45,12 +45,17 @@ def row_cost(tariff, prices, fresh, row):
     return cost
 
 
+def hot_machines(plan, t):
+    """Return how many machines of the plan are hot in a moment."""
+    return len([row for row in plan if row[t] == HOT])
+
+
 def fits(tariff, prices, needs, breaks, plan):
     """Tell whether the plan fits the run."""
     fresh = off_before(breaks, len(prices))
     if None in [row_cost(tariff, prices, fresh, row) for row in plan]:
         return False
-    return all([len([row for row in plan if row[t] == HOT]) >= need for t, need in enumerate(needs)])
+    return all([hot_machines(plan, t) >= need for t, need in enumerate(needs)])
 
 
 def plan_cost(tariff, prices, breaks, plan):

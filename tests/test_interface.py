@@ -31,6 +31,13 @@ FUNCTIONS = {
               "plan_cost(tariff, prices, breaks, plan)"],
     "papers": ["make(tariff, prices, needs, breaks)", "is_sound(tariff, prices, breaks, paper)",
                "accepts(tariff, prices, needs, breaks, plan, paper)"],
+    "forecasts": ["forecast_cost(tariff, total, forecast)"],
+    "timeouts": ["timeout_cost(tariff, prices, needs, breaks, limit)", "told_row(limit, gaps)"],
+    "choices": ["choose(tariffs, prices, needs, breaks)", "choice_paper(tariffs, prices, needs, breaks)",
+                "accepts_choice(tariffs, prices, needs, breaks, choice, paper)"],
+    "pooling": ["pooled(rows)", "parts_of_cost(tariff, prices, rows, breaks)",
+                "parts_paper(tariff, prices, rows, breaks)",
+                "accepts_parts(tariff, prices, rows, breaks, parts, paper)"],
 }
 
 CLASSES = {
@@ -40,6 +47,8 @@ CLASSES = {
                          "step(self, came, places)"]},
     "lanes": {"Pool": ["__init__(self, tariff)", "step(self, price, need)", "end_break(self)", "states(self)",
                        "after(self, price, need)", "spent(self)", "reserve(self)", "parts(self)"]},
+    "works": {"Works": ["__init__(self, tariff)", "step(self, price, is_needed)", "end_break(self)", "least(self)"],
+              "LookingBack": ["__init__(self, tariff)", "step(self, price, need)", "end_break(self)", "cost(self)"]},
 }
 
 
