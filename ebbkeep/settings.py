@@ -4,6 +4,17 @@ from ebbkeep.errors import InvalidSetting, Malformed
 from ebbkeep.integers import read_number, read_numbers, write_numbers
 from ebbkeep.tariffs import is_tariff
 
+# Where the parts of the setting of a service stand in it; the rates and the wakes stand behind them.
+NAME = 0
+ROOM = 1
+LAG = 2
+PATIENCE = 3
+WEIGHT = 4
+MOST = 5
+BUDGET = 6
+
+MOST_BUDGET = 1000000
+
 # In the line of a service these words stand at the even places, each before what it names.
 LABELS = ("service", "room", "lag", "patience", "weight", "most", "budget", "rates")
 
@@ -22,9 +33,14 @@ def is_service(setting):
         and 0 <= lag <= patience <= 20
         and 1 <= weight <= 9
         and 0 <= most <= 40
-        and 0 <= budget <= 1000000
+        and 0 <= budget <= MOST_BUDGET
         and is_tariff((rates, wakes))
     )
+
+
+def tariff_of(service):
+    """Return the tariff in the setting of a service."""
+    return service[BUDGET + 1:]
 
 
 def is_quota(quota):

@@ -38,6 +38,13 @@ FUNCTIONS = {
     "pooling": ["pooled(rows)", "parts_of_cost(tariff, prices, rows, breaks)",
                 "parts_paper(tariff, prices, rows, breaks)",
                 "accepts_parts(tariff, prices, rows, breaks, parts, paper)"],
+    "trust": ["trusting_state(tariff, total, trust, is_long)", "gap_cost(tariff, prices, trust, is_long)",
+              "trusting_cost(tariff, prices, needs, breaks, trust, forecasts)"],
+    "limits": ["write_limits(limits)", "read_limits(text)", "limit_state(limits, total)", "rule_limits(tariff)",
+               "limits_cost(tariff, prices, needs, breaks, limits)", "sweep(tariff, prices, needs, breaks, rules)"],
+    "budgets": ["limit(pool, price, want, budget)"],
+    "house": ["wanted(due, room, most)", "reason(due, run, want, limit, given)", "restart(setting, ledger)"],
+    "ledgers": ["write_ledger(ledger)", "read_ledger(text, services)"],
 }
 
 CLASSES = {
@@ -49,6 +56,8 @@ CLASSES = {
                        "after(self, price, need)", "spent(self)", "reserve(self)", "parts(self)"]},
     "works": {"Works": ["__init__(self, tariff)", "step(self, price, is_needed)", "end_break(self)", "least(self)"],
               "LookingBack": ["__init__(self, tariff)", "step(self, price, need)", "end_break(self)", "cost(self)"]},
+    "house": {"House": ["__init__(self, setting)", "setting(self)", "record(self)", "ledger(self)", "now(self)",
+                        "queue_rows(self, k)", "pool_parts(self, k)", "moment(self, entry)"]},
 }
 
 

@@ -26,6 +26,10 @@ STATEMENTS = (
 BARRED = {"register", "mro", "elements", "open", "input", "law", "eval", "exec", "compile", "globals", "locals", "vars",
           "dir", "id", "type", "help", "exit", "quit", "os", "sys", "enum", "Enum", "typing", "namedtuple", "dataclass"}
 
+BARRED_ATTRIBUTES = {"_cold", "_tuplegetter", "_outside", "_record", "_written_out", "_member_names", "items", "keys",
+                     "values", "pop", "append", "clear", "extend", "insert", "remove", "reverse", "setdefault", "sort",
+                     "args", "encode", "decode", "hex", "format", "mro", "register", "elements", "open", "input", "law"}
+
 
 def files():
     return sorted(name for name in os.listdir(FOLDER) if name != "__pycache__")
@@ -142,6 +146,36 @@ class Language(unittest.TestCase):
                 self.assertEqual(sorted(set(methods)), sorted(methods), (name, node.name))
                 attributes = [part.attr for part in parts_of(node, ast.Attribute) if isinstance(part.ctx, ast.Store)]
                 self.assertEqual(set(methods) & set(attributes), set(), (name, node.name))
+
+    def test_attributes(self):
+        for name, tree in trees().items():
+            for node in parts_of(tree, ast.Attribute):
+                if isinstance(node.ctx, ast.Store):
+                    self.assertIsInstance(node.value, ast.Name, (name, node.lineno))
+                    self.assertNotIn(node.attr, BARRED_ATTRIBUTES, (name, node.lineno))
+                    self.assertFalse(node.attr.startswith("__"), (name, node.lineno))
+
+    def test_each_call_of_a_function_passes_what_it_takes(self):
+        parameters = {}
+        for name, tree in trees().items():
+            for node in tree.body:
+                if isinstance(node, ast.FunctionDef):
+                    parameters.setdefault(name, {})[node.name] = len(node.args.args)
+        for name, tree in trees().items():
+            known = dict(parameters.get(name, {}))
+            for node in parts_of(tree, ast.ImportFrom):
+                source = parameters.get(node.module.split(".")[1] + ".py", {})
+                known.update({part.name: source[part.name] for part in node.names if part.name in source})
+            for node in parts_of(tree, ast.Call):
+                if isinstance(node.func, ast.Name) and node.func.id in known:
+                    self.assertEqual(len(node.args) + len(node.keywords), known[node.func.id], (name, node.lineno))
+
+    def test_no_import_is_idle(self):
+        for name, tree in trees().items():
+            read = {node.id for node in parts_of(tree, ast.Name)}
+            for node in parts_of(tree, ast.ImportFrom):
+                for part in node.names:
+                    self.assertIn(part.name, read, name)
 
     def test_lambdas(self):
         for name, tree in trees().items():
