@@ -119,6 +119,15 @@ class House:
         return list(deeds)
 
 
+def resumed(setting, queues, pools):
+    """Return a house with these queues and pools, which was told nothing yet."""
+    house = House(setting)
+    house._services = [
+        Service(service, setting[2], queue, pool) for service, queue, pool in zip(setting[1], queues, pools)
+    ]
+    return house
+
+
 def restart(setting, ledger):
     """Return the house that went through the ledger."""
     house = House(setting)

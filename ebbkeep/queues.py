@@ -57,6 +57,14 @@ class Queue:
         return (came, due, run, dropped)
 
 
+def from_rows(lag, patience, now, rows):
+    """Return a queue with these rows whose next moment is now."""
+    queue = Queue(lag, patience)
+    queue._now = now
+    queue._rows = list(rows)
+    return queue
+
+
 def is_full(moment):
     """Tell whether fewer jobs ran in the moment than were due."""
     return moment[2] < moment[1]

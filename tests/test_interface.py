@@ -45,6 +45,12 @@ FUNCTIONS = {
     "budgets": ["limit(pool, price, want, budget)"],
     "house": ["wanted(due, room, most)", "reason(due, run, want, limit, given)", "restart(setting, ledger)"],
     "ledgers": ["write_ledger(ledger)", "read_ledger(text, services)"],
+    "records": ["accepts_record(setting, ledger, record)", "history(record, k)", "queue_moments(record, k)"],
+    "audits": ["make_audit(setting, record, k)", "accepts_audit(setting, ledger, record, k, audit)"],
+    "snapshots": ["write_snapshot(house)", "read_snapshot(setting, text)"],
+    "reports": ["report(setting, record, k)"],
+    "tellings": ["write_record(setting, record)", "read_record(setting, text)"],
+    "advice": ["least_budget(setting, ledger, k)", "spare_budget(setting, ledger, k)", "machines_for(setting, ledger, k)"],
 }
 
 CLASSES = {
